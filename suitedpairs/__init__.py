@@ -1,0 +1,1 @@
+"""Suitedpairs: newcomers leave with the one who has waited longest."""

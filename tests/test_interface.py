@@ -1,0 +1,52 @@
+"""The interface: each name is defined in the file under which the document lists it, with its arguments."""
+
+import ast
+import pathlib
+import unittest
+
+FOLDER = pathlib.Path(__file__).resolve().parent.parent / "suitedpairs"
+
+FUNCTIONS = {
+    "kinds": {"is_integer": ["thing"], "is_kind": ["thing"], "are_kinds": ["thing"]},
+}
+ERRORS = ["SuitError", "Wrong", "BadPair", "NoKind", "NotComplete", "Lonely", "TooMany", "Crowded", "Taken",
+          "NotWaiting", "Full", "Broken", "Nothing", "NoText", "NoCommand"]
+METHODS = ["__init__", "__eq__", "__len__", "__repr__", "__contains__", "__call__", "many", "kinds", "pairs", "lonely",
+           "mates", "is_calm", "calm_sets", "ring", "each"]
+
+
+def defined(body, kind):
+    """The functions or classes of a body, by name."""
+    return {node.name: node for node in body if isinstance(node, kind)}
+
+
+def parsed(name):
+    """The statements of a file of the package."""
+    return ast.parse((FOLDER / f"{name}.py").read_text(encoding="utf-8")).body
+
+
+class Interface(unittest.TestCase):
+    def test_functions(self):
+        for name, functions in FUNCTIONS.items():
+            found = defined(parsed(name), ast.FunctionDef)
+            for function, arguments in functions.items():
+                with self.subTest(function):
+                    self.assertIn(function, found)
+                    told = found[function].args
+                    self.assertEqual([one.arg for one in told.posonlyargs + told.args], arguments)
+
+    def test_errors(self):
+        found = defined(parsed("errors"), ast.ClassDef)
+        for name in ERRORS:
+            self.assertIn(name, found)
+
+    def test_suits(self):
+        found = defined(parsed("suits"), ast.ClassDef)
+        self.assertIn("Suits", found)
+        methods = defined(found["Suits"].body, ast.FunctionDef)
+        for name in METHODS:
+            self.assertIn(name, methods)
+
+
+if __name__ == "__main__":
+    unittest.main()
