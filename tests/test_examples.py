@@ -23,6 +23,50 @@ EXAMPLES = {
 >>> [suits.calm_sets(), Suits.ring(['a', 'b', 'c', 'd']).pairs()]
 [[[], ['a'], ['b']], [('a', 'b'), ('a', 'd'), ('b', 'c'), ('c', 'd')]]
 """,
+    "31": """
+>>> from suitedpairs.lines import after, come, moments
+>>> from suitedpairs.suits import Suits
+>>> R = Suits(['a', 'b', 'c'], [('a', 'b'), ('b', 'c'), ('c', 'c')])
+>>> [come(R, ['a', 'c', 'a'], 'c'), come(R, ['a'], 'a'), after(R, ['a'], ['c', 'b', 'b', 'c'])]
+[(1, ['a', 'a']), (None, ['a', 'a']), ['c']]
+>>> list(moments(R, ['a'], ['c', 'b', 'b', 'c']))
+[['a', 'c'], ['c'], [], ['c']]
+""",
+    "33": """
+>>> from suitedpairs.pairing import by_newcomers, by_persons, parted, partners
+>>> from suitedpairs.suits import Suits
+>>> R = Suits(['a', 'b', 'c'], [('a', 'b'), ('b', 'c'), ('c', 'c')])
+>>> partners(R, ['a'], ['c', 'b', 'b', 'c'])
+[2, 3, 0, 1, None]
+>>> line, row = ['a', 'c', 'a'], ['c', 'a', 'b']
+>>> [by_newcomers(R, line, row), by_persons(R, line, row), parted(R, line, row)]
+[[1, None, 0], [2, 0, None], (['a'], ['a'])]
+""",
+    "40": """
+>>> from suitedpairs.papers import are_right, fault
+>>> from suitedpairs.suits import Suits
+>>> R = Suits(['a', 'b', 'c'], [('a', 'b'), ('b', 'c'), ('c', 'c')])
+>>> row = ['a', 'c', 'b', 'b']
+>>> [are_right(R, row, [2, 3, 0, 1]), are_right(R, row, [3, 2, 1, 0]), fault(R, row, [3, 2, 1, 0]), fault(R, row, [2, None, 0, None])]
+[True, False, (2, 0), (3, 1)]
+""",
+    "41": """
+>>> from suitedpairs.films import backward, cut, finish
+>>> from suitedpairs.suits import Suits
+>>> R = Suits(['a', 'b', 'c'], [('a', 'b'), ('b', 'c'), ('c', 'c')])
+>>> [backward(R, ['a', 'c', 'b', 'b']), cut(R, ['a', 'c', 'b', 'b'], 2), finish(R, ['a', 'c', 'a'])]
+[['c', 'a', 'b', 'b'], (['a', 'c'], ['c', 'a']), ['b', 'b', 'b']]
+>>> backward(R, ['a', 'a', 'b'])
+raises NotComplete(1)
+""",
+    "42": """
+>>> from suitedpairs.films import play, rewind
+>>> from suitedpairs.suits import Suits
+>>> R = Suits(['a', 'b', 'c'], [('a', 'b'), ('b', 'c'), ('c', 'c')])
+>>> events = rewind(R, ['a', 'a', 'c', 'b'])
+>>> [events, play(R, ['a', 'c'], events[:2]), play(R, ['a', 'c'], events)]
+[[('come', 'a'), ('go', 'c'), ('go', 'a'), ('come', 'b')], ['a', 'a'], []]
+""",
 }
 
 

@@ -8,6 +8,14 @@ FOLDER = pathlib.Path(__file__).resolve().parent.parent / "suitedpairs"
 
 FUNCTIONS = {
     "kinds": {"is_integer": ["thing"], "is_kind": ["thing"], "are_kinds": ["thing"]},
+    "lines": {"is_line": ["suits", "thing"], "is_row": ["suits", "thing"], "come": ["suits", "line", "kind"],
+              "after": ["suits", "line", "row"], "moments": ["suits", "line", "row"]},
+    "pairing": {"partners": ["suits", "line", "row"], "by_newcomers": ["suits", "line", "row"],
+                "by_persons": ["suits", "line", "row"], "parted": ["suits", "line", "row"]},
+    "papers": {"are_links": ["row", "thing"], "are_right": ["suits", "row", "thing"],
+               "fault": ["suits", "row", "links"]},
+    "films": {"is_complete": ["suits", "row"], "backward": ["suits", "row"], "cut": ["suits", "row", "at"],
+              "finish": ["suits", "line"], "play": ["suits", "line", "events"], "rewind": ["suits", "row"]},
 }
 ERRORS = ["SuitError", "Wrong", "BadPair", "NoKind", "NotComplete", "Lonely", "TooMany", "Crowded", "Taken",
           "NotWaiting", "Full", "Broken", "Nothing", "NoText", "NoCommand"]

@@ -1,0 +1,166 @@
+"""[3]: arguments stay, what is returned belongs to the caller, and results depend on the arguments alone."""
+
+import copy
+import random
+import unittest
+
+from suitedpairs.films import backward, cut, finish, is_complete, play, rewind
+from suitedpairs.lines import after, come, is_line, is_row, moments
+from suitedpairs.pairing import by_newcomers, by_persons, parted, partners
+from suitedpairs.papers import are_links, are_right, fault
+from suitedpairs.suits import Suits
+from tests import model
+from tests.values import Keeping, spoil
+
+KINDS = ["a", "b", "c"]
+RELATIONS = [
+    Suits(KINDS, [("a", "b"), ("b", "c"), ("c", "c")]), Suits(KINDS, [("a", "b"), ("a", "c"), ("b", "b")]),
+    Suits.each(KINDS), Suits(KINDS, []), Suits(KINDS, [("a", "a"), ("b", "b"), ("c", "c")]),
+    Suits(KINDS + ["d"], [("a", "b"), ("b", "c"), ("c", "c"), ("a", "d")]),
+]
+LINES = [[], ["a"], ["a", "a"], ["c"], ["b", "b"]]
+ROWS = [[], ["a"], ["a", "b"], ["b", "a"], ["a", "c", "b", "b"], ["b", "b", "a", "c"], ["c", "c", "a", "b", "a"],
+        ["a", "b", "c", "a", "b", "c"]]
+LINKS = [[], [None], [1, 0], [None, None], [2, 3, 0, 1], [3, 2, 1, 0], [None] * 4, [1, 0, 3, 2, None], [True, 0]]
+EVENTS = [[], [("come", "a")], [("come", "a"), ("go", "a")], [("come", "b"), ("come", "b"), ("go", "b")],
+          [("come", "c"), ("come", "a"), ("go", "c"), ("come", "b")]]
+
+
+def all_moments(suits, line, row):
+    """The moments of a walk as a list."""
+    return list(moments(suits, line, row))
+
+
+def cases(suits):
+    """Calls with what they are passed behind the relation, one list of lists of arguments for each."""
+    lines = [line for line in LINES if model.is_line(suits.pairs(), line)]
+    found = {
+        is_line: [[one] for one in LINES + ROWS], is_row: [[one] for one in LINES + ROWS],
+        come: [[line, kind] for line in lines for kind in KINDS],
+        is_complete: [[row] for row in ROWS], backward: [[row] for row in ROWS],
+        cut: [[row, at] for row in ROWS for at in range(len(row) + 1)],
+        finish: [[line] for line in lines], rewind: [[row] for row in ROWS],
+        play: [[line, events] for line in lines for events in EVENTS],
+        are_right: [[row, links] for row in ROWS for links in LINKS],
+        fault: [[row, links] for row in ROWS for links in LINKS if are_links(row, links)],
+    }
+    for call in (after, all_moments, partners, by_newcomers, by_persons, parted):
+        found[call] = [[line, row] for line in lines for row in ROWS]
+    return found
+
+
+def all_cases():
+    """All calls, relations and arguments."""
+    return [(call, suits, arguments) for suits in RELATIONS for call, lists in cases(suits).items()
+            for arguments in lists]
+
+
+def told(call, *arguments):
+    """What a call returns or raises, as a string."""
+    try:
+        return repr(call(*arguments))
+    except ValueError as error:
+        return repr((error.__class__.__name__, vars(error)))
+
+
+def does_raise(call, *arguments):
+    """Whether a call raises an error."""
+    try:
+        call(*arguments)
+    except ValueError:
+        return True
+    return False
+
+
+class KeepsLists(Keeping, unittest.TestCase):
+    def test_what_is_passed_and_what_is_returned(self):
+        for call, suits, arguments in all_cases():
+            if not does_raise(call, suits, *copy.deepcopy(arguments)):
+                with self.subTest(call=call.__name__, suits=suits, arguments=arguments):
+                    self.assert_keeps(call, suits, *copy.deepcopy(arguments))
+
+    def test_links_of_a_row(self):
+        for row in ROWS:
+            for links in LINKS:
+                self.assert_keeps(are_links, list(row), list(links))
+
+    def test_arguments_stay_when_an_error_is_raised(self):
+        for call, suits, arguments in all_cases():
+            given = copy.deepcopy(arguments)
+            first = told(call, suits, *given)
+            self.assertEqual(given, arguments)
+            self.assertEqual(told(call, suits, *given), first)
+
+    def test_the_relation_stays(self):
+        for suits in RELATIONS:
+            before = repr((suits, suits.kinds(), suits.pairs(), suits.lonely(), suits.calm_sets()))
+            for call, lists in cases(suits).items():
+                for arguments in lists:
+                    told(call, suits, *copy.deepcopy(arguments))
+            self.assertEqual(repr((suits, suits.kinds(), suits.pairs(), suits.lonely(), suits.calm_sets())), before)
+
+
+class DependsOnArgumentsAlone(unittest.TestCase):
+    def fresh(self, call, suits, arguments):
+        """What a call tells of copies, for a relation of its own."""
+        return told(call, Suits(suits.kinds(), suits.pairs()), *copy.deepcopy(arguments))
+
+    def test_asked_in_mixed_order(self):
+        chance = random.Random(21)
+        asked = all_cases()
+        wanted = [self.fresh(*one) for one in asked]
+        for _ in range(2):
+            for at in chance.sample(range(len(asked)), len(asked)):
+                call, suits, arguments = asked[at]
+                self.assertEqual(told(call, suits, *arguments), wanted[at])
+        for at, (call, suits, arguments) in enumerate(asked):
+            self.assertEqual(told(call, suits, *arguments), wanted[at])
+
+    def test_lists_that_are_changed_in_place(self):
+        for suits in RELATIONS:
+            for call, lists in cases(suits).items():
+                for first, second in zip(lists, lists[1:] + lists[:1]):
+                    given = copy.deepcopy(first)
+                    wanted = self.fresh(call, suits, first)
+                    self.assertEqual(told(call, suits, *given), wanted)
+                    replace(given, second)
+                    self.assertEqual(told(call, suits, *given), self.fresh(call, suits, second))
+                    replace(given, first)
+                    self.assertEqual(told(call, suits, *given), wanted)
+
+    def test_links_that_are_changed_in_place(self):
+        row, thing = ["a", "b"], [1, 0]
+        self.assertIs(are_links(row, thing), True)
+        thing[0] = None
+        self.assertIs(are_links(row, thing), False)
+        thing[1] = None
+        self.assertIs(are_links(row, thing), True)
+        row.append("a")
+        self.assertIs(are_links(row, thing), False)
+
+    def test_results_that_are_changed_are_not_told_again(self):
+        for call, suits, arguments in all_cases():
+            wanted = self.fresh(call, suits, arguments)
+            for _ in range(2):
+                if not does_raise(call, suits, *arguments):
+                    spoil(call(suits, *arguments))
+                self.assertEqual(told(call, suits, *arguments), wanted)
+
+    def test_new_relations_at_the_place_of_old_ones(self):
+        for suits in RELATIONS * 3:
+            for call in (after, partners):
+                self.assertEqual(told(call, Suits(suits.kinds(), suits.pairs()), ["b"], ["b", "a", "c"]),
+                                 told(call, suits, ["b"], ["b", "a", "c"]))
+
+
+def replace(arguments, others):
+    """Give the lists among the arguments the items of the others, in place."""
+    for at, other in enumerate(others):
+        if isinstance(other, list):
+            arguments[at][:] = copy.deepcopy(other)
+        else:
+            arguments[at] = other
+
+
+if __name__ == "__main__":
+    unittest.main()
