@@ -116,10 +116,35 @@ class Equal(Keeping, unittest.TestCase):
             self.assert_truth(suits != other, True)
             self.assert_truth(other == suits, False)
 
+    def test_what_looks_alike_is_not_equal(self):
+        suits = Suits(["a", "b"], [("a", "b")])
+        self.assert_truth(suits == LooksAlike(suits), False)
+        self.assert_truth(suits != LooksAlike(suits), True)
+
     def test_equal_to_itself(self):
         suits = Suits(["a"], [])
         self.assert_truth(suits == suits, True)
         self.assert_truth(suits != suits, False)
+
+
+class LooksAlike:
+    """An object that shows the same as a relation, and is none."""
+
+    def __init__(self, suits):
+        self.suits = suits
+        self.many = suits.many
+
+    def __repr__(self):
+        return repr(self.suits)
+
+    def __len__(self):
+        return len(self.suits)
+
+    def kinds(self):
+        return self.suits.kinds()
+
+    def pairs(self):
+        return self.suits.pairs()
 
 
 class Called(Keeping, unittest.TestCase):
