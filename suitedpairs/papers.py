@@ -1,6 +1,6 @@
 """Links: lists of pairs that are said to be what the rule makes of a row."""
 
-from suitedpairs.kinds import is_integer
+from suitedpairs.kinds import is_index
 from suitedpairs.pairing import partners
 
 
@@ -8,7 +8,7 @@ def are_links(row, thing):
     """Whether a value is a list of links of the row."""
     if not isinstance(thing, list) or len(thing) != len(row):
         return False
-    if not all([item is None or _is_index(item, len(row)) for item in thing]):
+    if not all([item is None or is_index(item, len(row)) for item in thing]):
         return False
     return all([item is None or _is_link(thing, index, item) for index, item in enumerate(thing)])
 
@@ -27,11 +27,6 @@ def fault(suits, row, links):
         if _earlier(links, index) != should:
             return index, should
     return None
-
-
-def _is_index(thing, many):
-    """Whether a value is the index of one of so many newcomers."""
-    return is_integer(thing) and 0 <= thing < many
 
 
 def _is_link(links, index, other):

@@ -85,6 +85,11 @@ class Suits:
         return cls(kinds, [(one, other) for one in kinds for other in kinds if one < other])
 
 
+def is_set(suits, thing):
+    """Whether a value is a list of different kinds of the relation, in ascending order."""
+    return are_kinds(thing) and thing == [kind for kind in suits.kinds() if kind in thing]
+
+
 def _are_names(thing):
     """Whether a value is a list of one to eight different kinds."""
     if not isinstance(thing, list) or not 1 <= len(thing) <= MOST_KINDS:

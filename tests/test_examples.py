@@ -67,6 +67,29 @@ raises NotComplete(1)
 >>> [events, play(R, ['a', 'c'], events[:2]), play(R, ['a', 'c'], events)]
 [[('come', 'a'), ('go', 'c'), ('go', 'a'), ('come', 'b')], ['a', 'a'], []]
 """,
+    "50": """
+>>> from suitedpairs.distances import common, course, distance
+>>> from suitedpairs.suits import Suits
+>>> R = Suits(['a', 'b', 'c'], [('a', 'b'), ('b', 'c'), ('c', 'c')])
+>>> [distance(['a', 'c', 'a'], ['c', 'a', 'a']), common(['a', 'c'], ['c']), course(R, ['a', 'c'], ['c', 'a'], ['b', 'b'])]
+[2, [(1, 0)], [2, 2, 0]]
+""",
+    "51": """
+>>> from suitedpairs.suits import Suits
+>>> from suitedpairs.trails import given_up, trail
+>>> R = Suits(['a', 'b', 'c'], [('a', 'b'), ('b', 'c'), ('c', 'c')])
+>>> [trail(R, [], ['c', 'b'], 0, 'b'), given_up(R, ['a', 'a'], ['b', 'c', 'b', 'b'], 0)]
+[[(1, -1), (-1, 0), (1, 1)], [(-1, 0), (-1, 1), (-1, 1), (-1, 3), (1, 5)]]
+""",
+    "61": """
+>>> from suitedpairs.crowds import crowd, excess, is_crowd, surplus
+>>> from suitedpairs.suits import Suits
+>>> R = Suits(['a', 'b', 'c'], [('a', 'b'), ('b', 'c'), ('c', 'c')])
+>>> [excess(R, ['a', 'a', 'b'], ['a']), surplus(R, ['b', 'b'], ['a']), crowd(R, ['a', 'a', 'b']), crowd(R, ['c', 'c'])]
+[1, -2, (1, ['a']), (0, [])]
+>>> [is_crowd(R, ['a', 'a', 'b'], ['a']), is_crowd(R, ['a', 'a', 'b'], [])]
+[True, False]
+""",
 }
 
 

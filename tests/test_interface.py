@@ -16,6 +16,11 @@ FUNCTIONS = {
                "fault": ["suits", "row", "links"]},
     "films": {"is_complete": ["suits", "row"], "backward": ["suits", "row"], "cut": ["suits", "row", "at"],
               "finish": ["suits", "line"], "play": ["suits", "line", "events"], "rewind": ["suits", "row"]},
+    "distances": {"distance": ["one", "other"], "common": ["one", "other"], "is_common": ["one", "other", "thing"],
+                  "course": ["suits", "one", "other", "row"]},
+    "trails": {"trail": ["suits", "line", "row", "at", "kind"], "given_up": ["suits", "line", "row", "place"]},
+    "crowds": {"excess": ["suits", "row", "kinds"], "surplus": ["suits", "line", "kinds"],
+               "crowd": ["suits", "row"], "is_crowd": ["suits", "row", "thing"]},
 }
 ERRORS = ["SuitError", "Wrong", "BadPair", "NoKind", "NotComplete", "Lonely", "TooMany", "Crowded", "Taken",
           "NotWaiting", "Full", "Broken", "Nothing", "NoText", "NoCommand"]

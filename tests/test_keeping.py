@@ -4,11 +4,14 @@ import copy
 import random
 import unittest
 
+from suitedpairs.crowds import crowd, excess, is_crowd, surplus
+from suitedpairs.distances import common, course, distance, is_common
 from suitedpairs.films import backward, cut, finish, is_complete, play, rewind
 from suitedpairs.lines import after, come, is_line, is_row, moments
 from suitedpairs.pairing import by_newcomers, by_persons, parted, partners
 from suitedpairs.papers import are_links, are_right, fault
 from suitedpairs.suits import Suits
+from suitedpairs.trails import given_up, trail
 from tests import model
 from tests.values import Keeping, spoil
 
@@ -24,11 +27,28 @@ ROWS = [[], ["a"], ["a", "b"], ["b", "a"], ["a", "c", "b", "b"], ["b", "b", "a",
 LINKS = [[], [None], [1, 0], [None, None], [2, 3, 0, 1], [3, 2, 1, 0], [None] * 4, [1, 0, 3, 2, None], [True, 0]]
 EVENTS = [[], [("come", "a")], [("come", "a"), ("go", "a")], [("come", "b"), ("come", "b"), ("go", "b")],
           [("come", "c"), ("come", "a"), ("go", "c"), ("come", "b")]]
+PARTS = [[], [(0, 0)], [(0, 0), (1, 1)], [(0, 1)], [(1, 0)], [(False, 0)], [[0, 0]]]
+SETS = [[], ["a"], ["b"], ["c"], ["a", "b"], ["b", "a"], ["a", "c"], ["x"], ["a", "a"], [["a"]]]
 
 
 def all_moments(suits, line, row):
     """The moments of a walk as a list."""
     return list(moments(suits, line, row))
+
+
+def distance_of(suits, one, other):
+    """The distance of two lines, which needs no relation."""
+    return distance(one, other)
+
+
+def common_of(suits, one, other):
+    """A longest common part of two lines, which needs no relation."""
+    return common(one, other)
+
+
+def is_common_of(suits, one, other, thing):
+    """Whether a value is a longest common part, which needs no relation."""
+    return is_common(one, other, thing)
 
 
 def cases(suits):
@@ -46,7 +66,29 @@ def cases(suits):
     }
     for call in (after, all_moments, partners, by_newcomers, by_persons, parted):
         found[call] = [[line, row] for line in lines for row in ROWS]
-    return found
+    return {**found, **cases_of_differences(lines), **cases_of_crowds(suits, lines)}
+
+
+def cases_of_differences(lines):
+    """Calls of distances and trails."""
+    return {
+        distance_of: [[one, other] for one in lines for other in lines],
+        common_of: [[one, other] for one in lines for other in lines],
+        is_common_of: [[one, other, thing] for one in lines for other in lines for thing in PARTS],
+        course: [[one, other, row] for one in lines for other in lines for row in ROWS[::2]],
+        trail: [[line, row, at, kind] for line in lines for row in ROWS for at in {0, len(row)} for kind in KINDS],
+        given_up: [[line, row, place] for line in lines for row in ROWS for place in range(len(line))],
+    }
+
+
+def cases_of_crowds(suits, lines):
+    """Calls of crowds."""
+    calm = suits.calm_sets()
+    return {
+        excess: [[row, kinds] for row in ROWS for kinds in calm],
+        surplus: [[line, kinds] for line in lines for kinds in calm],
+        crowd: [[row] for row in ROWS], is_crowd: [[row, thing] for row in ROWS for thing in SETS],
+    }
 
 
 def all_cases():
@@ -120,7 +162,8 @@ class DependsOnArgumentsAlone(unittest.TestCase):
         for suits in RELATIONS:
             for call, lists in cases(suits).items():
                 for first, second in zip(lists, lists[1:] + lists[:1]):
-                    given = copy.deepcopy(first)
+                    # One by one, so that no list is passed in twice.
+                    given = [copy.deepcopy(one) for one in first]
                     wanted = self.fresh(call, suits, first)
                     self.assertEqual(told(call, suits, *given), wanted)
                     replace(given, second)
