@@ -28,10 +28,21 @@ def come(suits, line, kind):
 
 def after(suits, line, row):
     """The line after a run of the row."""
-    now = list(line)
-    for kind in row:
-        now = come(suits, now, kind)[1]
-    return now
+    # Each kind has a queue of its own, by number, so that nobody has to search a line that many rounds made long.
+    mates = {kind: suits.mates([kind]) for kind in suits.kinds()}
+    queues = {kind: [] for kind in mates}
+    gone = {kind: 0 for kind in mates}
+    for number, kind in enumerate(line):
+        queues[kind].append(number)
+    for number, kind in enumerate(row, start=len(line)):
+        first = _first_of(mates[kind], queues, gone)
+        if first is None:
+            queues[kind].append(number)
+        else:
+            gone[first] += 1
+    persons = line + row
+    left = [number for kind in queues for number in queues[kind][gone[kind]:]]
+    return [persons[number] for number in sorted(left)]
 
 
 def moments(suits, line, row):
@@ -41,6 +52,12 @@ def moments(suits, line, row):
     for kind in list(row):
         now = come(suits, now, kind)[1]
         yield list(now)
+
+
+def _first_of(kinds, queues, gone):
+    """The one of these kinds of which a person waits who has waited longest, or None if none of them waits."""
+    heads = [(queues[kind][gone[kind]], kind) for kind in kinds if gone[kind] < len(queues[kind])]
+    return min(heads)[1] if heads else None
 
 
 def _is_of(suits, thing):

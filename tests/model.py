@@ -76,13 +76,13 @@ def run(pairs, line, row):
     waiting = list(range(len(line)))
     moments = []
     for number in range(len(line), len(persons)):
-        fit = [other for other in waiting if do_suit(pairs, persons[other], persons[number])]
-        if fit:
-            waiting.remove(fit[0])
-            partners[number] = fit[0]
-            partners[fit[0]] = number
-        else:
+        first = next((other for other in waiting if do_suit(pairs, persons[other], persons[number])), None)
+        if first is None:
             waiting.append(number)
+        else:
+            waiting.remove(first)
+            partners[number] = first
+            partners[first] = number
         moments.append(list(waiting))
     return moments, partners
 

@@ -154,7 +154,8 @@ class IsCommon(Keeping, unittest.TestCase):
             self.assert_truth(is_common(one, other, found[:at + 1] + found[at:]), False)
             for odd in ([first, second], (first,), (first, second, second), (str(first), second), (None, second),
                         (first, len(other)), (len(one), second), (first - len(one), second),
-                        (first, second - len(other)), (10 ** 39, second), (first, -(10 ** 39)), first, (first, [second]), ((first, second),), None):
+                        (first, second - len(other)), (10 ** 39, second), (first, -(10 ** 39)), first,
+                        (first, [second]), ((first, second),), None):
                 self.assert_truth(is_common(one, other, [*rest[0], odd, *rest[1]]), False)
         for at in range(len(found) - 1):
             turned = found[:at] + [found[at + 1], found[at]] + found[at + 2:]

@@ -81,6 +81,15 @@ raises NotComplete(1)
 >>> [trail(R, [], ['c', 'b'], 0, 'b'), given_up(R, ['a', 'a'], ['b', 'c', 'b', 'b'], 0)]
 [[(1, -1), (-1, 0), (1, 1)], [(-1, 0), (-1, 1), (-1, 1), (-1, 3), (1, 5)]]
 """,
+    "60": """
+>>> from suitedpairs.rounds import again, cycle
+>>> from suitedpairs.suits import Suits
+>>> R = Suits(['a', 'b', 'c'], [('a', 'b'), ('b', 'c'), ('c', 'c')])
+>>> [cycle(R, [], ['a', 'b']), cycle(R, ['c'], ['a', 'b']), again(R, ['c'], ['a', 'b'], 10 ** 18)]
+[(0, 1), (1, 1), ['a']]
+>>> cycle(R, [], ['a', 'a', 'b'], limit=9)
+raises TooMany(9)
+""",
     "61": """
 >>> from suitedpairs.crowds import crowd, excess, is_crowd, surplus
 >>> from suitedpairs.suits import Suits
@@ -89,6 +98,22 @@ raises NotComplete(1)
 [1, -2, (1, ['a']), (0, [])]
 >>> [is_crowd(R, ['a', 'a', 'b'], ['a']), is_crowd(R, ['a', 'a', 'b'], [])]
 [True, False]
+""",
+    "71": """
+>>> from suitedpairs.alike import compare, separates
+>>> from suitedpairs.suits import Suits
+>>> R = Suits(['a', 'b', 'c'], [('a', 'b'), ('b', 'c'), ('c', 'c')])
+>>> [compare(R, ['b', 'a'], []), separates(R, ['b', 'a'], [], ['a', 'a'])]
+[('apart', ['c']), False]
+>>> compare(Suits(['a', 'b'], [('a', 'b')]), ['b', 'a'], [])
+('alike', [(['b', 'a'], [], []), (['a'], [], ['a']), (['b'], [], ['b'])])
+""",
+    "80": """
+>>> from suitedpairs.stuck import are_stuck, leave
+>>> from suitedpairs.suits import Suits
+>>> R = Suits(['a', 'b', 'c'], [('a', 'b'), ('b', 'c'), ('c', 'c')])
+>>> [leave(R, ['a', 'a'], []), leave(R, ['a', 'c', 'a'], [0]), are_stuck(R, ['a', 'a'], [0], [1])]
+[('row', ['b', 'b']), ('stuck', [2]), True]
 """,
 }
 

@@ -21,6 +21,11 @@ FUNCTIONS = {
     "trails": {"trail": ["suits", "line", "row", "at", "kind"], "given_up": ["suits", "line", "row", "place"]},
     "crowds": {"excess": ["suits", "row", "kinds"], "surplus": ["suits", "line", "kinds"],
                "crowd": ["suits", "row"], "is_crowd": ["suits", "row", "thing"]},
+    "rounds": {"cycle": ["suits", "line", "row", "*limit"], "is_cycle": ["suits", "line", "row", "thing"],
+               "again": ["suits", "line", "row", "times", "*limit"]},
+    "tables": {"is_table": ["suits", "one", "other", "thing"]},
+    "alike": {"separates": ["suits", "one", "other", "line"], "compare": ["suits", "one", "other", "*limit"]},
+    "stuck": {"leave": ["suits", "line", "kept"], "are_stuck": ["suits", "line", "kept", "thing"]},
 }
 ERRORS = ["SuitError", "Wrong", "BadPair", "NoKind", "NotComplete", "Lonely", "TooMany", "Crowded", "Taken",
           "NotWaiting", "Full", "Broken", "Nothing", "NoText", "NoCommand"]
@@ -46,7 +51,8 @@ class Interface(unittest.TestCase):
                 with self.subTest(function):
                     self.assertIn(function, found)
                     told = found[function].args
-                    self.assertEqual([one.arg for one in told.posonlyargs + told.args], arguments)
+                    by_keyword = [f"*{one.arg}" for one in told.kwonlyargs]
+                    self.assertEqual([one.arg for one in told.posonlyargs + told.args] + by_keyword, arguments)
 
     def test_errors(self):
         found = defined(parsed("errors"), ast.ClassDef)

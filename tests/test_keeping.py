@@ -4,13 +4,17 @@ import copy
 import random
 import unittest
 
+from suitedpairs.alike import compare, separates
 from suitedpairs.crowds import crowd, excess, is_crowd, surplus
 from suitedpairs.distances import common, course, distance, is_common
 from suitedpairs.films import backward, cut, finish, is_complete, play, rewind
 from suitedpairs.lines import after, come, is_line, is_row, moments
 from suitedpairs.pairing import by_newcomers, by_persons, parted, partners
 from suitedpairs.papers import are_links, are_right, fault
+from suitedpairs.rounds import again, cycle, is_cycle
+from suitedpairs.stuck import are_stuck, leave
 from suitedpairs.suits import Suits
+from suitedpairs.tables import is_table
 from suitedpairs.trails import given_up, trail
 from tests import model
 from tests.values import Keeping, spoil
@@ -29,6 +33,9 @@ EVENTS = [[], [("come", "a")], [("come", "a"), ("go", "a")], [("come", "b"), ("c
           [("come", "c"), ("come", "a"), ("go", "c"), ("come", "b")]]
 PARTS = [[], [(0, 0)], [(0, 0), (1, 1)], [(0, 1)], [(1, 0)], [(False, 0)], [[0, 0]]]
 SETS = [[], ["a"], ["b"], ["c"], ["a", "b"], ["b", "a"], ["a", "c"], ["x"], ["a", "a"], [["a"]]]
+CYCLES = [(0, 1), (0, 2), (1, 1), (False, 1), (0, True), (1, 2), None]
+NODES = [[], [([], [], [])], [(["a"], ["a"], []), (["a"], ["a"], ["a"])], [(["b", "a"], [], []), (["a"], [], ["a"])]]
+KEPT = [[], [0], [1], [0, 1]]
 
 
 def all_moments(suits, line, row):
@@ -51,6 +58,16 @@ def is_common_of(suits, one, other, thing):
     return is_common(one, other, thing)
 
 
+def again_and_again(suits, line, row):
+    """The lines after no rounds, some rounds and very many rounds."""
+    return [again(suits, line, row, times) for times in (0, 1, 5, 10 ** 18)]
+
+
+def compare_within_five(suits, one, other):
+    """What compare returns if at most five nodes are met."""
+    return compare(suits, one, other, limit=5)
+
+
 def cases(suits):
     """Calls with what they are passed behind the relation, one list of lists of arguments for each."""
     lines = [line for line in LINES if model.is_line(suits.pairs(), line)]
@@ -66,7 +83,8 @@ def cases(suits):
     }
     for call in (after, all_moments, partners, by_newcomers, by_persons, parted):
         found[call] = [[line, row] for line in lines for row in ROWS]
-    return {**found, **cases_of_differences(lines), **cases_of_crowds(suits, lines)}
+    return {**found, **cases_of_differences(lines), **cases_of_crowds(suits, lines), **cases_of_rounds(lines),
+            **cases_of_two_rows(lines), **cases_of_stuck(lines)}
 
 
 def cases_of_differences(lines):
@@ -89,6 +107,31 @@ def cases_of_crowds(suits, lines):
         surplus: [[line, kinds] for line in lines for kinds in calm],
         crowd: [[row] for row in ROWS], is_crowd: [[row, thing] for row in ROWS for thing in SETS],
     }
+
+
+def cases_of_rounds(lines):
+    """Calls of rounds."""
+    return {
+        cycle: [[line, row] for line in lines for row in ROWS],
+        again_and_again: [[line, row] for line in lines for row in ROWS],
+        is_cycle: [[line, row, thing] for line in lines for row in ROWS for thing in CYCLES],
+    }
+
+
+def cases_of_two_rows(lines):
+    """Calls of tables and alike."""
+    return {
+        separates: [[one, other, line] for one in ROWS for other in ROWS[::2] for line in lines],
+        compare: [[one, other] for one in ROWS for other in ROWS[::2]],
+        compare_within_five: [[one, other] for one in ROWS for other in ROWS[::2]],
+        is_table: [[one, other, nodes] for one in ROWS for other in ROWS[:3] for nodes in NODES],
+    }
+
+
+def cases_of_stuck(lines):
+    """Calls of stuck, with kept persons that the line has."""
+    fit = [[line, kept] for line in lines for kept in KEPT if len(line) > max(kept, default=-1)]
+    return {leave: fit, are_stuck: [[*one, thing] for one in fit for thing in [*KEPT, [True], (0,)]]}
 
 
 def all_cases():
@@ -181,6 +224,18 @@ class DependsOnArgumentsAlone(unittest.TestCase):
         row.append("a")
         self.assertIs(are_links(row, thing), False)
 
+    def test_lists_in_a_table_that_are_changed_in_place(self):
+        suits, one, other = Suits(["a", "b"], [("a", "b")]), ["b", "a"], []
+        table = compare(suits, one, other)[1]
+        self.assertIs(is_table(suits, one, other, table), True)
+        for node in table:
+            for part in node:
+                part.append("a")
+                self.assertIs(is_table(suits, one, other, table), False)
+                part.pop()
+                self.assertIs(is_table(suits, one, other, table), True)
+        self.assertEqual(compare(suits, one, other), ("alike", table))
+
     def test_results_that_are_changed_are_not_told_again(self):
         for call, suits, arguments in all_cases():
             wanted = self.fresh(call, suits, arguments)
@@ -199,7 +254,7 @@ class DependsOnArgumentsAlone(unittest.TestCase):
 def replace(arguments, others):
     """Give the lists among the arguments the items of the others, in place."""
     for at, other in enumerate(others):
-        if isinstance(other, list):
+        if isinstance(other, list) and isinstance(arguments[at], list):
             arguments[at][:] = copy.deepcopy(other)
         else:
             arguments[at] = other
