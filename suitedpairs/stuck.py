@@ -5,16 +5,17 @@ from suitedpairs.kinds import do_ascend, is_index
 
 def leave(suits, line, kept):
     """A row after which all others have left and the kept ones stay, or the greatest set of stuck persons."""
-    waiting = list(range(len(line)))
+    stay = {person: True for person in kept}
+    gone = {}
     row = []
-    found = _next_to_leave(suits, line, waiting, kept)
-    while found is not None:
-        kind, person = found
-        row.append(kind)
-        waiting.remove(person)
-        found = _next_to_leave(suits, line, waiting, kept)
+    # A kind never takes anybody behind the first kept person that suits it: so each kind walks through the line once.
+    for kind in suits.kinds():
+        for person in _within_reach(suits, line, stay, kind):
+            if person not in gone:
+                gone[person] = True
+                row.append(kind)
     # Nobody can leave any more, and whoever left was not stuck: so all others who still wait are.
-    persons = [person for person in waiting if person not in kept]
+    persons = [person for person in range(len(line)) if person not in stay and person not in gone]
     return ("stuck", persons) if persons else ("row", row)
 
 
@@ -24,20 +25,29 @@ def are_stuck(suits, line, kept, thing):
         return False
     if len(thing) == 0 or not do_ascend(thing) or any([person in kept for person in thing]):
         return False
-    return all([_is_held(suits, line, kept + thing, person) for person in thing])
+    return _are_held(suits, line, kept, thing)
 
 
-def _next_to_leave(suits, line, waiting, kept):
-    """A kind, and the person who leaves with its next newcomer and is not kept, or None if there is none."""
-    for kind in suits.kinds():
-        mates = suits.mates([kind])
-        takes = [person for person in waiting if line[person] in mates]
-        if takes and takes[0] not in kept:
-            return kind, takes[0]
-    return None
+def _within_reach(suits, line, stay, kind):
+    """The persons that suit a kind, up to the first one of them that is to stay."""
+    mates = suits.mates([kind])
+    found = []
+    for person, other in enumerate(line):
+        if other in mates:
+            if person in stay:
+                return found
+            found.append(person)
+    return found
 
 
-def _is_held(suits, line, holders, person):
-    """Whether each kind that suits a person suits an earlier one of the holders, too."""
-    taken = suits.mates([line[holder] for holder in holders if holder < person])
-    return all([kind in taken for kind in suits.mates([line[person]])])
+def _are_held(suits, line, kept, persons):
+    """Whether for each of these persons each kind that suits it suits an earlier one of them or of the kept ones."""
+    asked = set(persons)
+    mates = {kind: suits.mates([kind]) for kind in suits.kinds()}
+    held = []
+    for person in sorted(kept + persons):
+        free = [kind for kind in mates[line[person]] if kind not in held]
+        if free and person in asked:
+            return False
+        held = held + free
+    return True

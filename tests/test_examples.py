@@ -115,6 +115,20 @@ raises TooMany(9)
 >>> [leave(R, ['a', 'a'], []), leave(R, ['a', 'c', 'a'], [0]), are_stuck(R, ['a', 'a'], [0], [1])]
 [('row', ['b', 'b']), ('stuck', [2]), True]
 """,
+    "81": """
+>>> from suitedpairs.reaching import fewest, kept
+>>> from suitedpairs.suits import Suits
+>>> R = Suits(['a', 'b', 'c'], [('a', 'b'), ('b', 'c'), ('c', 'c')])
+>>> [kept(['a', 'c', 'a'], ['c', 'a'], 2), kept(['a', 'c', 'a'], ['a', 'c'], 2), fewest(R, ['a', 'c', 'a'], ['c', 'a'])]
+[[1, 2], None, ('row', ['b'])]
+>>> fewest(Suits(['a', 'b'], [('b', 'b')]), ['a'], [])
+('never', [[0]])
+""",
+    "90": """
+>>> from suitedpairs.ratios import Ratio
+>>> [Ratio(6, -8), Ratio(1, 2) + Ratio(1, 3), Ratio(1, 2).less(Ratio(1, 3)), Ratio(2, 4) == Ratio(1, 2), bool(Ratio(0, 5))]
+[Ratio(-3, 4), Ratio(5, 6), False, True, False]
+""",
 }
 
 

@@ -26,11 +26,20 @@ FUNCTIONS = {
     "tables": {"is_table": ["suits", "one", "other", "thing"]},
     "alike": {"separates": ["suits", "one", "other", "line"], "compare": ["suits", "one", "other", "*limit"]},
     "stuck": {"leave": ["suits", "line", "kept"], "are_stuck": ["suits", "line", "kept", "thing"]},
+    "reaching": {"kept": ["line", "goal", "many"], "fewest": ["suits", "line", "goal"],
+                 "are_never": ["suits", "line", "goal", "thing"]},
+    "sums": {"total": ["suits", "weights", "kinds"]},
 }
 ERRORS = ["SuitError", "Wrong", "BadPair", "NoKind", "NotComplete", "Lonely", "TooMany", "Crowded", "Taken",
           "NotWaiting", "Full", "Broken", "Nothing", "NoText", "NoCommand"]
-METHODS = ["__init__", "__eq__", "__len__", "__repr__", "__contains__", "__call__", "many", "kinds", "pairs", "lonely",
-           "mates", "is_calm", "calm_sets", "ring", "each"]
+CLASSES = {
+    ("suits", "Suits"): {"__init__": ["kinds", "pairs"], "__eq__": None, "__len__": [], "__repr__": [],
+                         "__contains__": None, "__call__": ["one", "other"], "many": [], "kinds": [], "pairs": [],
+                         "lonely": [], "mates": ["kinds"], "is_calm": ["kinds"], "calm_sets": [], "ring": ["kinds"],
+                         "each": ["kinds"]},
+    ("ratios", "Ratio"): {"__init__": ["top", "bottom"], "__add__": None, "__sub__": None, "__mul__": None,
+                          "__eq__": None, "__repr__": [], "__bool__": [], "top": [], "bottom": [], "less": ["other"]},
+}
 
 
 def defined(body, kind):
@@ -59,12 +68,17 @@ class Interface(unittest.TestCase):
         for name in ERRORS:
             self.assertIn(name, found)
 
-    def test_suits(self):
-        found = defined(parsed("suits"), ast.ClassDef)
-        self.assertIn("Suits", found)
-        methods = defined(found["Suits"].body, ast.FunctionDef)
-        for name in METHODS:
-            self.assertIn(name, methods)
+    def test_classes(self):
+        for (file, name), methods in CLASSES.items():
+            found = defined(parsed(file), ast.ClassDef)
+            self.assertIn(name, found)
+            told = defined(found[name].body, ast.FunctionDef)
+            for method, arguments in methods.items():
+                with self.subTest(name=name, method=method):
+                    self.assertIn(method, told)
+                    if arguments is not None:
+                        # Behind the object itself, or the class.
+                        self.assertEqual([one.arg for one in told[method].args.args][1:], arguments)
 
 
 if __name__ == "__main__":

@@ -11,12 +11,14 @@ from suitedpairs.films import backward, cut, finish, is_complete, play, rewind
 from suitedpairs.lines import after, come, is_line, is_row, moments
 from suitedpairs.pairing import by_newcomers, by_persons, parted, partners
 from suitedpairs.papers import are_links, are_right, fault
+from suitedpairs.reaching import are_never, fewest, kept
 from suitedpairs.rounds import again, cycle, is_cycle
 from suitedpairs.stuck import are_stuck, leave
 from suitedpairs.suits import Suits
+from suitedpairs.sums import total
 from suitedpairs.tables import is_table
 from suitedpairs.trails import given_up, trail
-from tests import model
+from tests import model, weighed
 from tests.values import Keeping, spoil
 
 KINDS = ["a", "b", "c"]
@@ -36,6 +38,8 @@ SETS = [[], ["a"], ["b"], ["c"], ["a", "b"], ["b", "a"], ["a", "c"], ["x"], ["a"
 CYCLES = [(0, 1), (0, 2), (1, 1), (False, 1), (0, True), (1, 2), None]
 NODES = [[], [([], [], [])], [(["a"], ["a"], []), (["a"], ["a"], ["a"])], [(["b", "a"], [], []), (["a"], [], ["a"])]]
 KEPT = [[], [0], [1], [0, 1]]
+PAPERS = [[], [None], [[0]], [[0], None], [[0], [1], None], [[0, 1], [0]], [[False]], [None, None]]
+NUMBERS = [(1, 1, 1, 1), (1, 2, 2, 1), (5, 9, 6, 2), (4, 9, 6, 2), (1000, 999, 3, 1), (9, 5, 1, 1), (300, 200, 200, 1)]
 
 
 def all_moments(suits, line, row):
@@ -56,6 +60,11 @@ def common_of(suits, one, other):
 def is_common_of(suits, one, other, thing):
     """Whether a value is a longest common part, which needs no relation."""
     return is_common(one, other, thing)
+
+
+def kept_of(suits, line, goal, many):
+    """Who is kept, which needs no relation."""
+    return kept(line, goal, many)
 
 
 def again_and_again(suits, line, row):
@@ -84,7 +93,7 @@ def cases(suits):
     for call in (after, all_moments, partners, by_newcomers, by_persons, parted):
         found[call] = [[line, row] for line in lines for row in ROWS]
     return {**found, **cases_of_differences(lines), **cases_of_crowds(suits, lines), **cases_of_rounds(lines),
-            **cases_of_two_rows(lines), **cases_of_stuck(lines)}
+            **cases_of_two_rows(lines), **cases_of_stuck(lines), **cases_of_reaching(lines), **cases_of_sums(suits)}
 
 
 def cases_of_differences(lines):
@@ -132,6 +141,22 @@ def cases_of_stuck(lines):
     """Calls of stuck, with kept persons that the line has."""
     fit = [[line, kept] for line in lines for kept in KEPT if len(line) > max(kept, default=-1)]
     return {leave: fit, are_stuck: [[*one, thing] for one in fit for thing in [*KEPT, [True], (0,)]]}
+
+
+def cases_of_reaching(lines):
+    """Calls of reaching, from each line to each line."""
+    ways = [[line, goal] for line in lines for goal in lines]
+    return {
+        kept_of: [[*way, many] for way in ways for many in range(len(way[1]) + 1)],
+        fewest: ways, are_never: [[*way, thing] for way in ways for thing in PAPERS],
+    }
+
+
+def cases_of_sums(suits):
+    """Calls of sums."""
+    weights = [list(zip(suits.kinds(), numbers)) for numbers in NUMBERS]
+    sets = [kinds for kinds in model.subsets(suits.kinds()) if weighed.is_peaceful(suits.pairs(), kinds)]
+    return {total: [[one, kinds] for one in weights for kinds in sets]}
 
 
 def all_cases():
