@@ -129,6 +129,50 @@ raises TooMany(9)
 >>> [Ratio(6, -8), Ratio(1, 2) + Ratio(1, 3), Ratio(1, 2).less(Ratio(1, 3)), Ratio(2, 4) == Ratio(1, 2), bool(Ratio(0, 5))]
 [Ratio(-3, 4), Ratio(5, 6), False, True, False]
 """,
+    "92": """
+>>> from suitedpairs.shares import full, length, share, waiting
+>>> from suitedpairs.suits import Suits
+>>> R = Suits(['a', 'b', 'c'], [('a', 'b'), ('b', 'c'), ('c', 'c')])
+>>> weights = [('a', 1), ('b', 2), ('c', 2)]
+>>> [full(R, weights), full(R, [('a', 1), ('b', 2), ('c', 1)]), share(R, weights, []), share(R, weights, ['a', 'c'])]
+[None, ['b'], Ratio(3, 16), Ratio(3, 64)]
+>>> [waiting(R, weights, ['a', 'c']), length(R, weights, 1)]
+[Ratio(5, 32), Ratio(5, 16)]
+""",
+    "93": """
+>>> from suitedpairs.shares import joins, meets
+>>> from suitedpairs.suits import Suits
+>>> R = Suits(['a', 'b', 'c'], [('a', 'b'), ('b', 'c'), ('c', 'c')])
+>>> weights = [('a', 1), ('b', 2), ('c', 2)]
+>>> [meets(R, weights, 'b', 'a'), meets(R, weights, 'b', 'c'), joins(R, weights, 'b'), meets(R, weights, 'b', 'b')]
+[Ratio(5, 16), Ratio(1, 8), Ratio(9, 16), Ratio(0, 1)]
+""",
+    "101": """
+>>> from suitedpairs.books import Book
+>>> from suitedpairs.suits import Suits
+>>> book = Book(Suits(['a', 'b', 'c'], [('a', 'b'), ('b', 'c'), ('c', 'c')]))
+>>> [book.come('ann', 'a'), book.come('bob', 'c'), book.come('cyd', 'b'), book.line(), book.pairs()]
+[None, None, 'ann', [('bob', 'c')], [('ann', 'cyd')]]
+>>> [book.late(0, ('come', 'dan', 'c')), book.line(), book.cut(1), book.line(), book.waiting]
+[('fewer', 'bob'), [], ('more', 'cyd'), [('cyd', 'b')], 1]
+""",
+    "102": r"""
+>>> from suitedpairs.notation import read_deeds, read_suits, show_row, show_suits
+>>> from suitedpairs.suits import Suits
+>>> [show_suits(Suits(['b', 'a'], [('b', 'b'), ('b', 'a')])), show_row([]), read_deeds('come ann a\ngo ann')]
+['a b a-b b-b', '-', [('come', 'ann', 'a'), ('go', 'ann')]]
+>>> read_suits('a b b-a')
+raises NoText()
+""",
+    "103": """
+>>> from suitedpairs.desk import Desk
+>>> from suitedpairs.suits import Suits
+>>> desk = Desk(Suits(['a', 'b', 'c'], [('a', 'b'), ('b', 'c'), ('c', 'c')]))
+>>> [desk.execute('come ann a'), desk.execute('come bob c'), desk.execute('come cyd b'), desk.execute('line'), desk.execute('pairs')]
+['-', '-', 'ann', 'bob:c', 'ann:cyd']
+>>> [desk.execute('finish'), desk.execute('reach a'), desk.execute('rounds 9 a b'), desk.execute('alike b a / -'), desk.execute('cut 0')]
+['b', '2', 'a', 'apart c', 'fewer bob']
+""",
 }
 
 
@@ -143,7 +187,7 @@ def shown(names, text):
         return repr(eval(code, names))
     except ValueError as error:
         name = error.__class__.__name__
-        return f"raises {name}({getattr(error, FIELDS[name])!r})"
+        return f"raises {name}({repr(getattr(error, FIELDS[name])) if name in FIELDS else ''})"
 
 
 class Examples(unittest.TestCase):

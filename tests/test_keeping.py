@@ -13,6 +13,7 @@ from suitedpairs.pairing import by_newcomers, by_persons, parted, partners
 from suitedpairs.papers import are_links, are_right, fault
 from suitedpairs.reaching import are_never, fewest, kept
 from suitedpairs.rounds import again, cycle, is_cycle
+from suitedpairs.shares import full, joins, length, mean, meets, share, waiting
 from suitedpairs.stuck import are_stuck, leave
 from suitedpairs.suits import Suits
 from suitedpairs.sums import total
@@ -93,7 +94,8 @@ def cases(suits):
     for call in (after, all_moments, partners, by_newcomers, by_persons, parted):
         found[call] = [[line, row] for line in lines for row in ROWS]
     return {**found, **cases_of_differences(lines), **cases_of_crowds(suits, lines), **cases_of_rounds(lines),
-            **cases_of_two_rows(lines), **cases_of_stuck(lines), **cases_of_reaching(lines), **cases_of_sums(suits)}
+            **cases_of_two_rows(lines), **cases_of_stuck(lines), **cases_of_reaching(lines),
+            **cases_of_chances(suits, lines)}
 
 
 def cases_of_differences(lines):
@@ -152,11 +154,19 @@ def cases_of_reaching(lines):
     }
 
 
-def cases_of_sums(suits):
-    """Calls of sums."""
+def cases_of_chances(suits, lines):
+    """Calls of sums and shares."""
     weights = [list(zip(suits.kinds(), numbers)) for numbers in NUMBERS]
     sets = [kinds for kinds in model.subsets(suits.kinds()) if weighed.is_peaceful(suits.pairs(), kinds)]
-    return {total: [[one, kinds] for one in weights for kinds in sets]}
+    return {
+        total: [[one, kinds] for one in weights for kinds in sets],
+        full: [[one] for one in weights], mean: [[one] for one in weights],
+        share: [[one, line] for one in weights[1::2] for line in lines],
+        waiting: [[one, kinds] for one in weights[1::2] for kinds in [[], KINDS, *sets[1:4]]],
+        length: [[one, many] for one in weights[1::2] for many in (0, 3)],
+        meets: [[one, *two] for one in weights[1::2] for two in (["a", "b"], ["b", "a"], ["c", "c"])],
+        joins: [[one, kind] for one in weights[1::2] for kind in KINDS],
+    }
 
 
 def all_cases():

@@ -42,22 +42,38 @@ def peaceful_sets(kinds, pairs):
     return [one for one in model.subsets(sorted(kinds)) if is_peaceful(pairs, one)]
 
 
-def total(kinds, pairs, weights, members):
-    """The sum of the products over all lines of these kinds, by the orders in which the kinds first wait.
+def order_parts(kinds, pairs, weights, order):
+    """For all lines whose kinds first wait in this order: the sum of the products, and their mean number of persons.
 
     After each first person of a kind, others of the kinds up to there may follow, any number of those that do not suit
     themselves: a geometric series.
     """
-    found = Fraction(0)
-    for order in itertools.permutations(members):
-        part = Fraction(1)
-        for at, kind in enumerate(order):
-            known = order[:at + 1]
-            again = [one for one in known if not model.do_suit(pairs, one, one)]
-            mates = weight(weights, model.mates(kinds, pairs, known))
-            part *= Fraction(weight(weights, [kind]), mates - weight(weights, again))
-        found += part
-    return found
+    part, persons = Fraction(1), Fraction(0)
+    for at, kind in enumerate(order):
+        known = order[:at + 1]
+        again = weight(weights, [one for one in known if not model.do_suit(pairs, one, one)])
+        mates = weight(weights, model.mates(kinds, pairs, known))
+        part *= Fraction(weight(weights, [kind]), mates - again)
+        persons += Fraction(mates, mates - again)
+    return part, persons
+
+
+def total(kinds, pairs, weights, members):
+    """The sum of the products over all lines of these kinds, by the orders in which the kinds first wait."""
+    return sum(order_parts(kinds, pairs, weights, order)[0] for order in itertools.permutations(members))
+
+
+def all_orders(kinds, pairs, weights):
+    """For each order in which kinds may first wait: the order, the share of its lines, their mean number of persons."""
+    found = [(order, *order_parts(kinds, pairs, weights, order))
+             for members in peaceful_sets(kinds, pairs) for order in itertools.permutations(members)]
+    whole = sum(part for _, part, _ in found)
+    return [(order, part / whole, persons) for order, part, persons in found]
+
+
+def share(kinds, pairs, weights, line):
+    """The share of a line."""
+    return all_orders(kinds, pairs, weights)[0][1] * product(kinds, pairs, weights, line)
 
 
 def made_weights(chance, kinds, most):
