@@ -125,7 +125,8 @@ class Deeds(Keeping, unittest.TestCase):
         for line, wanted in (("come ann a", "-"), ("come bob c", "-"), ("come cyd b", "ann"), ("line", "bob:c"),
                              ("pairs", "ann:cyd"), ("log", "come ann a; come bob c; come cyd b"),
                              ("partner cyd", "ann"), ("partner bob", "-"), ("go bob", "ok"), ("partner bob", "-"),
-                             ("line", "-"), ("back", "go bob"), ("back", "come cyd b"), ("again", "come cyd b"), ("again", "go bob"),
+                             ("line", "-"), ("back", "go bob"), ("back", "come cyd b"), ("again", "come cyd b"),
+                             ("again", "go bob"),
                              ("cut 3", "more bob"), ("late 0 come dan c", "fewer bob"), ("cut 0", "more bob"),
                              ("late 3 go bob", "fewer bob"), ("log", "come ann a; come bob c; come cyd b; go bob"),
                              ("come eve a", "-"), ("come fay a", "-"), ("line", "eve:a fay:a"),
@@ -303,7 +304,8 @@ class NoCommands(Keeping, unittest.TestCase):
             wrong = [" " + line, line + " ", line + "\n", "\n" + line, line.replace(" ", "  ", 1),
                      line.replace(" ", ""), line.replace(" ", "\n", 1), line.replace(" ", "\t", 1), line.upper(),
                      line.capitalize(), line + ".", "x " + line, "/ " + line, line + " /", line + " / a",
-                     line + " A", line + " 1", line + ";", line + " -", "".join(words[:1]) + "x" + line[len(words[0]):], "- " + line]
+                     line + " A", line + " 1", line + ";", line + " -", words[0] + "x" + line[len(words[0]):],
+                     "- " + line]
             if words[0] not in ("rounds", "reach", "alike"):
                 wrong += [" ".join(words[:-1]), line + " a", line + " ann", f"{line}; {line}", f"{line}\n{line}"]
             for other in wrong:
@@ -321,7 +323,8 @@ class NoCommands(Keeping, unittest.TestCase):
                      "late 0 gone ann", "late 0 go ann a", "late 0 cut 0", "late 0 -", "late 0 0 go ann", "cut",
                      "cut a", "cut 0 1", "cut -", "back 1", "again 1", "back back", "line a", "lines", "pairs a",
                      "pair", "log a", "partner", "partner Ann", "partner ann bob", "partner -", "finish a", "finish -",
-                     "rounds", "rounds 1", "rounds a", "rounds a b", "rounds 1 x", "rounds 1 a x", "rounds 1 - -", "rounds 1 a -",
+                     "rounds", "rounds 1", "rounds a", "rounds a b", "rounds 1 x", "rounds 1 a x", "rounds 1 - -",
+                     "rounds 1 a -",
                      "rounds 1 A", "rounds - a", "rounds a 1", "rounds 1 1 a", "reach", "reach x", "reach a x",
                      "reach A", "reach - -", "reach - a", "reach 1", "alike", "alike a", "alike /", "alike a /",
                      "alike / a",

@@ -29,6 +29,12 @@ FUNCTIONS = {
     "reaching": {"kept": ["line", "goal", "many"], "fewest": ["suits", "line", "goal"],
                  "are_never": ["suits", "line", "goal", "thing"]},
     "sums": {"total": ["suits", "weights", "kinds"]},
+    "shares": {"full": ["suits", "weights"], "share": ["suits", "weights", "line"],
+               "waiting": ["suits", "weights", "kinds"], "length": ["suits", "weights", "many"],
+               "mean": ["suits", "weights"], "meets": ["suits", "weights", "kind", "first"],
+               "joins": ["suits", "weights", "kind"]},
+    "notation": {"show_suits": ["suits"], "show_row": ["row"], "show_deeds": ["deeds"], "read_suits": ["text"],
+                 "read_row": ["text"], "read_deeds": ["text"]},
 }
 ERRORS = ["SuitError", "Wrong", "BadPair", "NoKind", "NotComplete", "Lonely", "TooMany", "Crowded", "Taken",
           "NotWaiting", "Full", "Broken", "Nothing", "NoText", "NoCommand"]
@@ -39,6 +45,10 @@ CLASSES = {
                          "each": ["kinds"]},
     ("ratios", "Ratio"): {"__init__": ["top", "bottom"], "__add__": None, "__sub__": None, "__mul__": None,
                           "__eq__": None, "__repr__": [], "__bool__": [], "top": [], "bottom": [], "less": ["other"]},
+    ("books", "Book"): {"__init__": ["suits"], "__eq__": None, "__len__": [], "waiting": [], "come": ["name", "kind"],
+                        "go": ["name"], "late": ["at", "deed"], "cut": ["at"], "back": [], "again": [], "line": [],
+                        "pairs": [], "partner": ["name"], "log": [], "suits": [], "copied": []},
+    ("desk", "Desk"): {"__init__": ["suits"], "execute": ["line"]},
 }
 
 

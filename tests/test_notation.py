@@ -117,8 +117,8 @@ class Relations(Refusing, unittest.TestCase):
 
     def test_texts_that_write_none(self):
         for text in ("", " ", "-", "a-a", "a-b", "a a-b", "a b a-c", "a b a-b-b", "a b a--b", "a b -", "a b a-",
-                     "a b -b", "a b a-b a-b", "b a", "b a a-b", "a a-a b", "a a-b b", "a a", "a b a", "A", "a B", "a A-a",
-                     "a1",
+                     "a b -b", "a b a-b a-b", "b a", "b a a-b", "a a-a b", "a a-b b", "a a", "a b a", "A", "a B",
+                     "a A-a", "a1",
                      "abcdefghi", "abcdefghi abcdefghi-abcdefghi", "a b b-b a-b", "a b a-b a-a", "a\nb", "a\n", "\na",
                      "a  b", " a", "a ", "a b  a-b", "a,b", "a b a:b", "come ann a", "a b a-b\n", "a/b", "a-b a b"):
             self.assert_none(read_suits, text)
